@@ -410,29 +410,35 @@ func TestP4ChangedTexts(t *testing.T) {
 	}
 }
 
+// anyProg: a well made program of any size.
+func anyProg(r *rand.Rand) api.Prog {
+	p := api.Prog{Regs: 1 + r.Intn(8), Data: r.Intn(9), Slots: r.Intn(9), Blocks: make([]api.Block, 1+r.Intn(6))}
+	p.Args = r.Intn(p.Regs + 1)
+	pick := func(c byte) int {
+		most := map[byte]int{'r': p.Regs, 's': p.Slots, 'x': len(p.Blocks), 'b': 256, '0': 1}[c]
+		return r.Intn(most)
+	}
+	for i := range p.Blocks {
+		for k := r.Intn(13); k > 0; k-- {
+			kind := 1 + r.Intn(15)
+			if p.Slots == 0 && kind >= api.Put {
+				kind = api.Move
+			}
+			f := shapes[kind]
+			p.Blocks[i].Ops = append(p.Blocks[i].Ops, api.Op{Kind: kind, A: pick(f[0]), B: pick(f[1]), C: pick(f[2])})
+		}
+		kind := 1 + r.Intn(3)
+		f := endShapes[kind]
+		p.Blocks[i].End = api.End{Kind: kind, R: pick(f[0]), X: pick(f[1]), Y: pick(f[2])}
+	}
+	return p
+}
+
 // Programs of all kinds, there and back.
 func TestP4ThereAndBack(t *testing.T) {
 	r := rand.New(rand.NewSource(2))
 	for n := 0; n < 5000; n++ {
-		p := api.Prog{Regs: 1 + r.Intn(8), Data: r.Intn(9), Slots: r.Intn(9), Blocks: make([]api.Block, 1+r.Intn(6))}
-		p.Args = r.Intn(p.Regs + 1)
-		pick := func(c byte) int {
-			most := map[byte]int{'r': p.Regs, 's': p.Slots, 'x': len(p.Blocks), 'b': 256, '0': 1}[c]
-			return r.Intn(most)
-		}
-		for i := range p.Blocks {
-			for k := r.Intn(13); k > 0; k-- {
-				kind := 1 + r.Intn(15)
-				if p.Slots == 0 && kind >= api.Put {
-					kind = api.Move
-				}
-				f := shapes[kind]
-				p.Blocks[i].Ops = append(p.Blocks[i].Ops, api.Op{Kind: kind, A: pick(f[0]), B: pick(f[1]), C: pick(f[2])})
-			}
-			kind := 1 + r.Intn(3)
-			f := endShapes[kind]
-			p.Blocks[i].End = api.End{Kind: kind, R: pick(f[0]), X: pick(f[1]), Y: pick(f[2])}
-		}
+		p := anyProg(r)
 		if !wellMade(p) {
 			t.Fatalf("the test's own program is not well made: %+v", p)
 		}

@@ -4,6 +4,7 @@ package twin
 import (
 	"twin/api"
 	"twin/codec"
+	"twin/machine"
 )
 
 // Encode tells a program's text (P4).
@@ -19,7 +20,7 @@ func EncodeHint(h api.Hint) (string, api.Errno) { return codec.EncodeHint(h) }
 func DecodeHint(s string) (api.Hint, api.Errno) { return codec.DecodeHint(s) }
 
 // Run runs a program, at most fuel blocks of it (P6, P7).
-func Run(s string, in api.Input, fuel int) (api.Outcome, api.Errno) { return api.Outcome{}, api.OK }
+func Run(s string, in api.Input, fuel int) (api.Outcome, api.Errno) { return machine.Run(s, in, fuel) }
 
 // Term tells what stands in a place at a block's end, as a text (P10).
 func Term(s string, block int, place int) (string, api.Errno) { return "", api.OK }
