@@ -4,6 +4,7 @@ package twin
 import (
 	"twin/api"
 	"twin/codec"
+	"twin/compute"
 	"twin/machine"
 )
 
@@ -23,10 +24,10 @@ func DecodeHint(s string) (api.Hint, api.Errno) { return codec.DecodeHint(s) }
 func Run(s string, in api.Input, fuel int) (api.Outcome, api.Errno) { return machine.Run(s, in, fuel) }
 
 // Term tells what stands in a place at a block's end, as a text (P10).
-func Term(s string, block int, place int) (string, api.Errno) { return "", api.OK }
+func Term(s string, block int, place int) (string, api.Errno) { return compute.Term(s, block, place) }
 
 // Marks tells what a block lets out on its way, and where it may trap (P11).
-func Marks(s string, block int) ([]string, api.Errno) { return nil, api.OK }
+func Marks(s string, block int) ([]string, api.Errno) { return compute.Marks(s, block) }
 
 // Validate tells whether the target does what the source does and lets out no more, as far as the hint shows it (P12).
 func Validate(s string, t string, h string) (api.Errno, int) { return api.OK, 0 }
