@@ -260,12 +260,19 @@ func writtenOf(m, u, v string) string {
 
 // computes: what stands in every place of a block at its end, the cells last; its marks; and whether it is big.
 func computes(p api.Prog, block int) (places []string, marks []string, big bool) {
+	var begin []string
 	for i := 0; i < p.Regs; i++ {
-		places = append(places, fmt.Sprint("r", i))
+		begin = append(begin, fmt.Sprint("r", i))
 	}
 	for i := 0; i < p.Slots; i++ {
-		places = append(places, fmt.Sprint("x", p.Regs+i))
+		begin = append(begin, fmt.Sprint("x", p.Regs+i))
 	}
+	return computesFrom(p, block, begin)
+}
+
+// computesFrom: the same, for a block whose places begin with these texts.
+func computesFrom(p api.Prog, block int, begin []string) (places []string, marks []string, big bool) {
+	places = slices.Clone(begin)
 	m := "m"
 	mark := func(text string, known bool) {
 		if !known && !slices.Contains(marks, text) {

@@ -4,6 +4,7 @@ package twin
 import (
 	"twin/api"
 	"twin/codec"
+	"twin/compare"
 	"twin/compute"
 	"twin/machine"
 )
@@ -30,4 +31,4 @@ func Term(s string, block int, place int) (string, api.Errno) { return compute.T
 func Marks(s string, block int) ([]string, api.Errno) { return compute.Marks(s, block) }
 
 // Validate tells whether the target does what the source does and lets out no more, as far as the hint shows it (P12).
-func Validate(s string, t string, h string) (api.Errno, int) { return api.OK, 0 }
+func Validate(s string, t string, h string) (api.Errno, int) { return compare.Validate(s, t, h) }
