@@ -188,7 +188,7 @@ func TestP14LetOut(t *testing.T) {
 	}
 }
 
-// big: is a block of one of the two big?
+// bigTwins: is a block of one of the two big?
 func bigTwins(c twins) bool {
 	for _, p := range []api.Prog{c.source, c.target} {
 		for i := range p.Blocks {
